@@ -1,0 +1,1 @@
+"""Lotheads: lots joined and named by heads, with few steps to them."""
