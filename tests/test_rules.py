@@ -13,7 +13,8 @@ BARRED = (
 ).split()
 BUILTINS = (
     "len range enumerate zip min max sum abs sorted reversed int str bool bytes list tuple dict set frozenset "
-    "isinstance ord repr any all divmod super ValueError"
+    "isinstance ord repr any all divmod super Exception ValueError TypeError KeyError IndexError LookupError "
+    "ZeroDivisionError ArithmeticError OverflowError RuntimeError NotImplementedError AttributeError StopIteration"
 ).split()
 
 
