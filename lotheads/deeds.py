@@ -1,8 +1,8 @@
-"""Deeds: finds and joins in stores, and the rows of them."""
+"""Deeds: finds and joins in stores, and the rows of them, of joins, tellings and ties."""
 
 from lotheads.errors import NoDeed
 from lotheads.finds import find_in
-from lotheads.forests import is_thing
+from lotheads.forests import is_thing, is_whole
 
 LENGTHS = {"find": 2, "join": 3}
 
@@ -20,6 +20,16 @@ def is_pair(many, thing):
     if not isinstance(thing, tuple) or len(thing) != 2:
         return False
     return is_thing(many, thing[0]) and is_thing(many, thing[1])
+
+
+def is_telling(many, thing):
+    if not isinstance(thing, tuple) or len(thing) != 3:
+        return False
+    return is_pair(many, thing[:2]) and is_whole(thing[2])
+
+
+def is_tie(many, thing):
+    return is_telling(many, thing) and thing[2] >= 0
 
 
 def check_row(many, row, is_right):

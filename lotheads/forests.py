@@ -83,6 +83,22 @@ def lots_in(ups):
     return [tuple(lot) for lot in lots.values()]
 
 
+def is_lot(many, thing):
+    if not isinstance(thing, tuple) or len(thing) == 0:
+        return False
+    if not all([is_thing(many, x) for x in thing]):
+        return False
+    return all([x < y for x, y in zip(thing, thing[1:])])
+
+
+def are_lots(many, thing):
+    """Whether this, of any kind, is all lots of many things, by their least ones."""
+    if not isinstance(thing, (list, tuple)) or not all([is_lot(many, lot) for lot in thing]):
+        return False
+    leasts = [lot[0] for lot in thing]
+    return leasts == sorted(leasts) and sorted([x for lot in thing for x in lot]) == list(range(many))
+
+
 def lot_with(ups, x):
     head = way_up(ups, x)[-1]
     return tuple([y for y in range(len(ups)) if way_up(ups, y)[-1] == head])

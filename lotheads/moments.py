@@ -3,6 +3,7 @@
 from lotheads.deeds import check_joins, join_done
 from lotheads.errors import NoMoment
 from lotheads.forests import check_many, check_thing, is_thing, lot_with, lots_in, way_up
+from lotheads.roads import numbers_between, steps_along
 from lotheads.stores import new_store
 
 
@@ -33,6 +34,11 @@ def forest_at(many, row, moment):
     return forest_and_times(many, row[:moment])[0]
 
 
+def lots_by(many, row):
+    """The lots at the end of a row that is known to be right."""
+    return lots_in(forest_and_times(many, row)[0])
+
+
 def times_of(many, row):
     check_many_and_row(many, row)
     return forest_and_times(many, row)
@@ -48,7 +54,7 @@ def head_at(many, row, moment, x):
 def lots_at(many, row, moment):
     check_many_and_row(many, row)
     check_moment(row, moment)
-    return lots_in(forest_at(many, row, moment))
+    return lots_by(many, row[:moment])
 
 
 def real_numbers(many, row):
@@ -57,28 +63,21 @@ def real_numbers(many, row):
     return [number for number in range(len(row)) if number in times]
 
 
-def roads_from(many, row, x):
-    """For each thing in x's lot the road to it by real joins."""
-    reals = real_numbers(many, row)
-    roads = {x: ()}
-    waiting = [x]
-    while waiting:
-        at = waiting.pop()
-        for number in reals:
-            one, other = row[number]
-            beside = other if at == one else one
-            if at in (one, other) and beside not in roads:
-                roads[beside] = roads[at] + (number,)
-                waiting.append(beside)
-    return roads
+def real_steps(many, row):
+    """The steps along the real joins: from one thing to another there is but one road by them."""
+    return steps_along(row, real_numbers(many, row))
+
+
+def moment_of(road):
+    """The first moment at which this road, of real joins, can be gone."""
+    return max(road, default=-1) + 1
 
 
 def first_moment(many, row, x, y):
     check_many_and_row(many, row)
     check_thing(many, x)
     check_thing(many, y)
-    roads = roads_from(many, row, x)
-    if y not in roads:
+    road = numbers_between(real_steps(many, row), x, y)
+    if road is None:
         return "apart", lot_with(forest_at(many, row, len(row)), x)
-    road = roads[y]
-    return "one", max(road, default=-1) + 1, road
+    return "one", moment_of(road), road

@@ -84,6 +84,22 @@ def wrong_joins(many):
     return wrong
 
 
+def wrong_pairs(many):
+    """What is no tuple of two unlike ones of many things, of any kind."""
+    return wrong_joins(many) + [(x, x) for x in range(many)]
+
+
+def wrong_triples(many):
+    """What is no tuple of two of many things and a whole number, of any kind."""
+    wrong = wrong_things() + [(), (0,), (0, 0), (0, 0, 0, 0), [0, 0, 0], ((0, 0), 0), (0, (0, 0)), "000", b"000"]
+    wrong += [("join", 0, 0), ("find", 0), {0: 0, 1: 1, 2: 2}]
+    for x in no_things(many):
+        wrong += [(x, 0, 0), (0, x, 0), (x, x, 0), (x, x, x)]
+    for number in (None, True, False, "", "0", b"0", (), (0,), [0], {}, len, *deep_things(9)):
+        wrong += [(0, 0, number), (0, many - 1, number)]
+    return wrong
+
+
 def wrong_rows():
     """What is no tuple, of any kind."""
     whole = [("find", 0)], [(0, 0)], {}, {0: ("find", 0)}, "", "find 0", b"", 0, 1
@@ -279,6 +295,45 @@ def random_joins(rng, many, length):
     return tuple([deed[1:] for deed in random_row(rng, many, 3 * length) if deed[0] == "join"][:length])
 
 
+def rows_of_joins(seed):
+    """(MANY, ROW): one thing and forty, no joins and sixty, chains, stars, and rows by chance."""
+    rng = random.Random(seed)
+    rows = [(1, ()), (1, ((0, 0),) * 60), (40, ()), (4, ()), (2, ((0, 1),) * 60), (3, ((0, 1), (1, 2), (2, 0)))]
+    for many in (2, 3, 4, 5, 8, 20, 40):
+        for length in (1, 4, 12, 60):
+            rows.append((many, random_joins(rng, many, length)))
+    rows.append((40, tuple([(x, x + 1) for x in range(39)])))
+    rows.append((40, tuple([(39 - x, 38 - x) for x in rng.sample(range(39), 39)])))
+    rows.append((40, tuple([(0, x) for x in range(1, 40)])))
+    rows.append((40, tuple([(x, (x + 1) % 40) for x in range(40)])))
+    return rows
+
+
+def lots_by_joins(many, joins):
+    """All lots, by flooding, by their least things."""
+    return sorted(set([reached(many, joins, x) for x in range(many)]))
+
+
+def is_real(many, row, number):
+    """Whether the things of this join, or telling, were apart ahead of it, by flooding."""
+    x, y = row[number][:2]
+    return y not in reached(many, [place[:2] for place in row[:number]], x)
+
+
+def reals(many, row):
+    return [number for number in range(len(row)) if is_real(many, row, number)]
+
+
+def things_on(row, x, road):
+    """The things that a road of numbers comes to from x on; fails where it breaks."""
+    things = [x]
+    for number in road:
+        one, other = row[number][:2]
+        assert type(number) is int and number >= 0 and things[-1] in (one, other), (row, x, road)
+        things.append(other if things[-1] == one else one)
+    return things
+
+
 def plain(told):
     """Whether all that is told is ints that are no truths, truths, texts, None, lists and tuples of these."""
     if type(told) in (list, tuple):
@@ -301,6 +356,14 @@ class Case(unittest.TestCase):
         self.assertEqual(expected, told)
         # To Python True equals 1, so the kinds are held together, too.
         self.assertEqual(repr(expected), repr(told))
+
+    def check_real_road(self, many, row, x, y, road):
+        """It leads from x to y by real joins and comes to no thing twice."""
+        self.assertIs(tuple, type(road))
+        gone = things_on(row, x, road)
+        self.assertEqual(y, gone[-1])
+        self.assertEqual(len(gone), len(set(gone)))
+        self.assertEqual([], [number for number in road if not is_real(many, row, number)])
 
     def refused(self, kind, function, *arguments):
         """Asks for just this class of refusal, arguments unchanged, and gives the error."""

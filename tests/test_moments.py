@@ -10,19 +10,7 @@ from tests.helper import Case
 ROW = ((0, 1), (2, 3), (1, 0), (4, 4), (3, 1), (2, 0))
 
 
-def rows_for_all():
-    rng = random.Random(17)
-    rows = [(1, ()), (1, ((0, 0),) * 60), (40, ()), (6, ROW), (4, ())]
-    for many in (2, 3, 4, 5, 8, 20, 40):
-        for length in (1, 4, 12, 60):
-            rows.append((many, helper.random_joins(rng, many, length)))
-    rows.append((40, tuple([(x, x + 1) for x in range(39)])))
-    rows.append((40, tuple([(39 - x, 38 - x) for x in rng.sample(range(39), 39)])))
-    rows.append((40, tuple([(0, x) for x in range(1, 40)])))
-    return rows
-
-
-ROWS = rows_for_all()
+ROWS = helper.rows_of_joins(17) + [(6, ROW)]
 
 
 def forests_behind(many, row):
@@ -130,22 +118,7 @@ class FirstMoments(Case):
         self.assertEqual(moment, max(road) + 1 if road else 0)
         if moment > 0:
             self.assertNotIn(y, helper.reached(many, row[:moment - 1], x))
-        self.assertIs(tuple, type(road))
-        self.check_road(many, row, x, y, road)
-
-    def check_road(self, many, row, x, y, road):
-        """It leads from x to y by real joins and comes to no thing twice."""
-        at = x
-        seen = [x]
-        for number in road:
-            self.assertIs(int, type(number))
-            one, other = row[number]
-            self.assertNotIn(other, helper.reached(many, row[:number], one))
-            self.assertIn(at, (one, other))
-            at = other if at == one else one
-            self.assertNotIn(at, seen)
-            seen.append(at)
-        self.assertEqual(y, at)
+        self.check_real_road(many, row, x, y, road)
 
 
 class Refusals(Case):

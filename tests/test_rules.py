@@ -72,6 +72,24 @@ class Rules(unittest.TestCase):
             for node in nodes(path, ast.Constant):
                 self.assertNotIsInstance(node.value, (float, complex), path)
 
+    def test_no_name_is_a_method_and_an_attribute(self):
+        methods, attributes = set(), set()
+        for path in FILES:
+            for node in nodes(path, ast.ClassDef):
+                names = [inner.name for inner in node.body if isinstance(inner, ast.FunctionDef)]
+                self.assertEqual(len(names), len(set(names)), path)
+                methods |= set(names)
+            attributes |= {node.attr for node in nodes(path, ast.Attribute) if isinstance(node.ctx, ast.Store)}
+        self.assertEqual(set(), methods & attributes)
+        self.assertEqual([], [name for name in attributes if hasattr("", name) or hasattr({}, name)])
+
+    def test_no_sets(self):
+        for path in FILES:
+            self.assertEqual([], nodes(path, (ast.Set, ast.SetComp)), path)
+            names = [node.id for node in nodes(path, ast.Name)]
+            self.assertNotIn("set", names, path)
+            self.assertNotIn("frozenset", names, path)
+
 
 def defined(path):
     names = []
