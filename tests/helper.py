@@ -100,6 +100,29 @@ def wrong_triples(many):
     return wrong
 
 
+def wrong_ties(many):
+    """What is no tuple of two of many things and a whole number from 0 on, of any kind."""
+    return wrong_triples(many) + [(0, 0, -1), (0, many - 1, -1), (many - 1, 0, -10 ** 9)]
+
+
+def wrong_lots(many):
+    """What is no lots of many things, at least three, of any kind: at one of the lots and as a whole."""
+    single = [(x,) for x in range(many)]
+    wrong = [single[1:], single[:-1], single + [(many,)], single[1:] + single[:1], single[::-1], single + [()]]
+    wrong += [[()] + single, single + single[-1:], single[:1] + single, [tuple(range(many)), (many - 1,)]]
+    wrong += [[tuple(range(many))[::-1]], [tuple(range(many)) + (many - 1,)], [(0, 0)] + single[1:], [], [()]]
+    wrong += [[tuple(range(many))] * 2, [tuple(range(many + 1))], [tuple(range(1, many))], [(-1, 0)] + single[1:]]
+    wrong += [[(1,), (0,)] + single[2:], [(1, 2), (0,)] + single[3:], [(0, 2), (2, 1)] + single[3:]]
+    wrong += [[(0, 1), (1, 2)] + single[3:], [(1, 0)] + single[2:], tuple(range(many)), list(range(many))]
+    # (0,) is a lot; by == this would leave out (False,), too.
+    for x in [x for x in no_things(many) + wrong_things() if repr(x) != "(0,)"]:
+        wrong += [[x] + single[1:], single[:-1] + [x], [(x,)] + single[1:], single[:-1] + [(x,)], [(0, x)] + single[1:]]
+        wrong += [[(0, 1, x)] + single[2:], single + [x]]
+    wrong += [[list(lot) for lot in single], [[0]] + single[1:], single[:-1] + [[many - 1]], [set(lot) for lot in single]]
+    wrong += [dict.fromkeys(single), dict(enumerate(single)), set(single), frozenset(single), "".join(map(str, range(many)))]
+    return [place for lots in wrong for place in ([lots, tuple(lots)] if isinstance(lots, list) else [lots])]
+
+
 def wrong_rows():
     """What is no tuple, of any kind."""
     whole = [("find", 0)], [(0, 0)], {}, {0: ("find", 0)}, "", "find 0", b"", 0, 1
@@ -332,6 +355,24 @@ def things_on(row, x, road):
         assert type(number) is int and number >= 0 and things[-1] in (one, other), (row, x, road)
         things.append(other if things[-1] == one else one)
     return things
+
+
+def all_lots(many):
+    """All ways in which many things can lie in lots, each by least things."""
+    if many == 0:
+        return [[]]
+    told = []
+    for lots in all_lots(many - 1):
+        told.append(lots + [(many - 1,)])
+        for at, lot in enumerate(lots):
+            told.append(lots[:at] + [lot + (many - 1,)] + lots[at + 1:])
+    return told
+
+
+def random_lots(rng, many):
+    """Lots of many things by chance, now coarser, now finer."""
+    count = rng.randrange(rng.randrange(1, 2 * many))
+    return lots_by_joins(many, random_joins(rng, many, min(count, 60)))
 
 
 def plain(told):
