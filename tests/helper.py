@@ -118,8 +118,8 @@ def wrong_lots(many):
     for x in [x for x in no_things(many) + wrong_things() if repr(x) != "(0,)"]:
         wrong += [[x] + single[1:], single[:-1] + [x], [(x,)] + single[1:], single[:-1] + [(x,)], [(0, x)] + single[1:]]
         wrong += [[(0, 1, x)] + single[2:], single + [x]]
-    wrong += [[list(lot) for lot in single], [[0]] + single[1:], single[:-1] + [[many - 1]], [set(lot) for lot in single]]
-    wrong += [dict.fromkeys(single), dict(enumerate(single)), set(single), frozenset(single), "".join(map(str, range(many)))]
+    wrong += [[list(lot) for lot in single], [[0]] + single[1:], single[:-1] + [[many - 1]]]
+    wrong += [[set(lot) for lot in single], dict.fromkeys(single), dict(enumerate(single)), set(single), "012"]
     return [place for lots in wrong for place in ([lots, tuple(lots)] if isinstance(lots, list) else [lots])]
 
 
@@ -335,6 +335,13 @@ def rows_of_joins(seed):
 def lots_by_joins(many, joins):
     """All lots, by flooding, by their least things."""
     return sorted(set([reached(many, joins, x) for x in range(many)]))
+
+
+def joined(holder, row):
+    """The pile, or the names, behind these joins."""
+    for x, y in row:
+        holder.join(x, y)
+    return holder
 
 
 def is_real(many, row, number):

@@ -90,7 +90,8 @@ class Pieces(Case):
         self.told([("a", (0,)), ("b", (1,)), ("b", (2,)), ("a", (3,))], pieces_of, ("ab", "ba"))
 
     def test_the_end_of_a_row_is_not_beside_the_start_of_the_next(self):
-        self.told([("b", (0,)), ("c", (1,)), ("a", (2,)), ("a", (3,)), ("d", (4,)), ("e", (5,))], pieces_of, ("bca", "ade"))
+        expected = [("b", (0,)), ("c", (1,)), ("a", (2,)), ("a", (3,)), ("d", (4,)), ("e", (5,))]
+        self.told(expected, pieces_of, ("bca", "ade"))
 
     def test_a_piece_that_winds(self):
         board = ("aaaaaaa", "bbbbbba", "aaaaaba", "abbbaba", "abaaaba")

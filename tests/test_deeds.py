@@ -59,6 +59,14 @@ class Joins(Case):
         self.told((behind, True, 1), done, store, ("join", 0, 2))
         self.told((behind, True, 1), done, store, ("join", 2, 0))
 
+    def test_told_tuples_are_new(self):
+        store = new_store(4, "size", "none")
+        for behind in (run(store, ())[0], done(store, ("find", 1))[0], done(store, ("join", 2, 2))[0]):
+            self.same(store, behind)
+            self.assertIsNot(store, behind)
+            self.assertIsNot(store[2], behind[2])
+            self.assertIsNot(store[3], behind[3])
+
     def test_things_of_one_lot(self):
         for store in stores_of(3):
             for x in range(3):

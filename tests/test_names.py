@@ -13,10 +13,7 @@ ROWS = helper.rows_of_joins(45)
 
 
 def names_of(many, weights, row):
-    names = Names(many, weights)
-    for x, y in row:
-        names.join(x, y)
-    return names
+    return helper.joined(Names(many, weights), row)
 
 
 def name_by_words(many, weights, row, x, by):
@@ -153,7 +150,8 @@ class Refusals(NamesCase):
             self.refused(NoMany, Names, wrong, None)
 
     def test_no_weight_of_any_kind(self):
-        for wrong in helper.wrong_numbers(3) + [0, 1, 2, (), (0,), (0, 0), (0, 0, 0, 0), [0, 0, 0], "000", b"000", range(3)]:
+        more = [0, 1, 2, (), (0,), (0, 0), (0, 0, 0, 0), [0, 0, 0], "000", b"000", range(3)]
+        for wrong in helper.wrong_numbers(3) + more:
             self.refused(NoWeight, Names, 3, wrong)
         self.refused(NoWeight, Names, 1, ())
         self.refused(NoWeight, Names, 40, (0,) * 39)

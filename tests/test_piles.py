@@ -12,10 +12,7 @@ ROWS = helper.rows_of_joins(31)
 
 
 def pile_of(many, row):
-    pile = Pile(many)
-    for x, y in row:
-        pile.join(x, y)
-    return pile
+    return helper.joined(Pile(many), row)
 
 
 class PileCase(Case):

@@ -27,20 +27,6 @@ def lots_with(many, x, y):
     return sorted([pair] + [(z,) for z in range(many) if z not in pair])
 
 
-def names_by(many, row):
-    names = Names(many, (0,) * many)
-    for x, y in row:
-        names.join(x, y)
-    return names
-
-
-def pile_by(many, row):
-    pile = Pile(many)
-    for x, y in row:
-        pile.join(x, y)
-    return pile
-
-
 class Lots(Case):
     def test_by_all_ways_of_joining_and_manners(self):
         for many, row in ROWS:
@@ -51,21 +37,26 @@ class Lots(Case):
                     store, answers, steps = run(new_store(many, join, short), deeds)
                     self.same(lots, lots_of(store[2]))
 
-    def test_by_moments_piles_names_webs_and_tellings(self):
+    def test_by_moments_piles_names_and_webs(self):
         rng = random.Random(66)
         for many, row in ROWS:
             lots = helper.lots_by_joins(many, row)
             ties = tuple([(x, y, rng.randrange(9)) for x, y in row])
             self.same(lots, lots_at(many, row, len(row)))
             self.same(lots, lots_of(times_of(many, row)[0]))
-            self.same(lots, pile_by(many, row).lots())
-            self.same(lots, sorted(names_by(many, row).lots()))
+            self.same(lots, helper.joined(Pile(many), row).lots())
+            self.same(lots, sorted(helper.joined(Names(many, (0,) * many), row).lots()))
             self.same(lots, pieces(many, ties))
-            self.same(lots, lots_at(many, tuple([row[number] for number in least_forest(many, ties)[1]]), many - len(lots)))
+            chosen = tuple([row[number] for number in least_forest(many, ties)[1]])
+            self.same(lots, lots_at(many, chosen, many - len(lots)))
+
+    def test_by_tellings(self):
+        for many, row in ROWS:
             tellings = tuple([(x, y, 0) for x, y in row])
             self.same(("fits", (0,) * many), heights(many, 0, tellings))
-            beside = [tuple([y for y in range(many) if difference(many, 0, tellings, x, y) == 0]) for x in range(many)]
-            self.same(lots, sorted(set(beside)))
+            for x in sorted({0, many // 2, many - 1}):
+                told = [y for y in range(many) if difference(many, 0, tellings, x, y) == 0]
+                self.same(helper.reached(many, row, x), tuple(told))
 
     def test_by_lots_together(self):
         for many, row in ROWS:
@@ -87,7 +78,7 @@ class Lots(Case):
     def test_by_rows_without_a_join_and_piles(self):
         for many, row in ROWS:
             for number in range(0, len(row), 7):
-                pile = pile_by(many, row)
+                pile = helper.joined(Pile(many), row)
                 pile.back_to(number)
                 for x, y in row[number + 1:]:
                     pile.join(x, y)
