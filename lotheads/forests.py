@@ -17,6 +17,11 @@ def is_many(thing):
     return is_whole(thing) and 1 <= thing <= MOST_THINGS
 
 
+def are_sides(high, wide):
+    """Whether these, of any kind, are the sides of a board: as many spots are allowed as things."""
+    return is_many(high) and is_many(wide) and is_many(high * wide)
+
+
 def is_thing(many, thing):
     return is_whole(thing) and 0 <= thing < many
 
@@ -83,17 +88,18 @@ def lots_in(ups):
     return [tuple(lot) for lot in lots.values()]
 
 
-def is_lot(many, thing):
-    if not isinstance(thing, tuple) or len(thing) == 0:
-        return False
-    if not all([is_thing(many, x) for x in thing]):
+def is_rising(many, thing):
+    """Whether this, of any kind, is a rising tuple of things, perhaps of none."""
+    if not isinstance(thing, tuple) or not all([is_thing(many, x) for x in thing]):
         return False
     return all([x < y for x, y in zip(thing, thing[1:])])
 
 
 def are_lots(many, thing):
     """Whether this, of any kind, is all lots of many things, by their least ones."""
-    if not isinstance(thing, (list, tuple)) or not all([is_lot(many, lot) for lot in thing]):
+    if not isinstance(thing, (list, tuple)):
+        return False
+    if not all([is_rising(many, lot) and len(lot) > 0 for lot in thing]):
         return False
     leasts = [lot[0] for lot in thing]
     return leasts == sorted(leasts) and sorted([x for lot in thing for x in lot]) == list(range(many))

@@ -10,6 +10,7 @@ import unittest
 
 JOINS = ("size", "rank", "told", "names")
 SHORTS = ("none", "whole", "halves", "splits", "one")
+SIDES = [(high, wide) for high in range(1, 41) for wide in range(1, 41) if high * wide <= 40]
 
 
 def nested(inner, wrap, times):
@@ -380,6 +381,31 @@ def random_lots(rng, many):
     """Lots of many things by chance, now coarser, now finer."""
     count = rng.randrange(rng.randrange(1, 2 * many))
     return lots_by_joins(many, random_joins(rng, many, min(count, 60)))
+
+
+def flood_places(places, starts, reach):
+    """All of these places to which steps from starts lead, each of at most reach rows and columns together or,
+    where reach is 2, of one row and one column."""
+    wet = [place for place in starts if place in places]
+    for row, column in wet:
+        for below in (-1, 0, 1):
+            for beside in (-1, 0, 1):
+                next_one = (row + below, column + beside)
+                if abs(below) + abs(beside) <= reach and next_one in places and next_one not in wet:
+                    wet.append(next_one)
+    return wet
+
+
+def seeps_by_places(high, wide, opened):
+    """Whether open spots lead from the first row to the last, by flooding over places (ROW, COLUMN)."""
+    places = {divmod(spot, wide) for spot in opened}
+    return any([row == high - 1 for row, column in flood_places(places, [(0, at) for at in range(wide)], 1)])
+
+
+def walled_by_places(high, wide, opened):
+    """Whether shut spots lead from the first column to the last, by corners, too."""
+    places = {divmod(spot, wide) for spot in range(high * wide) if spot not in opened}
+    return any([column == wide - 1 for row, column in flood_places(places, [(at, 0) for at in range(high)], 2)])
 
 
 def plain(told):

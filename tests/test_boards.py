@@ -5,9 +5,7 @@ import random
 from lotheads.boards import is_board, pieces_of
 from lotheads.errors import NoBoard
 from tests import helper
-from tests.helper import Case
-
-SIZES = [(high, wide) for high in range(1, 41) for wide in range(1, 41) if high * wide <= 40]
+from tests.helper import SIDES, Case
 
 
 def wrong_boards():
@@ -56,7 +54,7 @@ def letter_at(board, place):
 class IsBoard(Case):
     def test_boards_of_all_sizes(self):
         rng = random.Random(61)
-        for high, wide in SIZES:
+        for high, wide in SIDES:
             self.told(True, is_board, random_board(rng, high, wide))
             self.told(True, is_board, ("a" * wide,) * high)
 
@@ -100,7 +98,7 @@ class Pieces(Case):
 
     def test_many_boards(self):
         rng = random.Random(62)
-        for high, wide in SIZES:
+        for high, wide in SIDES:
             for turn in range(3):
                 board = random_board(rng, high, wide)
                 self.told(pieces_by_places(board), pieces_of, board)
