@@ -28,6 +28,19 @@ def is_telling(many, thing):
     return is_pair(many, thing[:2]) and is_whole(thing[2])
 
 
+def is_rest(thing):
+    return is_whole(thing) and (thing == 0 or 2 <= thing <= 1000)
+
+
+def by_rest(rest, number):
+    return number if rest == 0 else number % rest
+
+
+def comes_to(rest, tellings, road):
+    """What the end of a road of tellings, of tuples (N, SIGN), is more than its start."""
+    return by_rest(rest, sum([tellings[number][2] * sign for number, sign in road]))
+
+
 def is_tie(many, thing):
     return is_telling(many, thing) and thing[2] >= 0
 

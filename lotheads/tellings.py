@@ -1,13 +1,9 @@
 """Tellings: what things are more than others, by a rest, and whether this can be."""
 
-from lotheads.deeds import check_row, is_telling
+from lotheads.deeds import by_rest, check_row, comes_to, is_rest, is_telling
 from lotheads.errors import NoFit, NoRest
-from lotheads.forests import check_many, check_thing, is_whole
+from lotheads.forests import check_many, check_thing
 from lotheads.roads import roads_by, steps_along
-
-
-def is_rest(thing):
-    return is_whole(thing) and (thing == 0 or 2 <= thing <= 1000)
 
 
 def check_rest_and_tellings(many, rest, tellings):
@@ -15,15 +11,6 @@ def check_rest_and_tellings(many, rest, tellings):
     if not is_rest(rest):
         raise NoRest("the rest is neither 0 nor a whole number from 2 to 1000")
     check_row(many, tellings, is_telling)
-
-
-def by_rest(rest, number):
-    return number if rest == 0 else number % rest
-
-
-def comes_to(rest, tellings, road):
-    """What the end of a road of tellings is more than its start."""
-    return by_rest(rest, sum([tellings[number][2] * sign for number, sign in road]))
 
 
 def gone_through(rest, tellings):
@@ -52,14 +39,19 @@ def heights(many, rest, tellings):
     return "fits", tuple([height_by(rest, tellings, steps, x) for x in range(many)])
 
 
-def difference(many, rest, tellings, x, y):
+def road_between(many, rest, tellings, x, y):
+    """The road from x to y by tellings that joined two lots; None where there is none."""
     check_rest_and_tellings(many, rest, tellings)
     check_thing(many, x)
     check_thing(many, y)
     joining, clash = gone_through(rest, tellings)
     if clash is not None:
         raise NoFit("the tellings clash")
-    road = roads_by(steps_along(tellings, joining), x).get(y)
+    return roads_by(steps_along(tellings, joining), x).get(y)
+
+
+def difference(many, rest, tellings, x, y):
+    road = road_between(many, rest, tellings, x, y)
     if road is None:
         return None
     return comes_to(rest, tellings, road)

@@ -408,6 +408,312 @@ def walled_by_places(high, wide, opened):
     return any([column == wide - 1 for row, column in flood_places(places, [(at, 0) for at in range(high)], 2)])
 
 
+def shaped(thing, shape):
+    """Whether this, of any kind, is built as the shape: [S] is a tuple of any number of S, (S, ..) one of just these,
+    int and str are of just this kind, a function says itself, and all else is just that."""
+    if isinstance(shape, list):
+        return type(thing) is tuple and all([shaped(part, shape[0]) for part in thing])
+    if isinstance(shape, tuple):
+        parts = type(thing) is tuple and len(thing) == len(shape)
+        return parts and all([shaped(part, inner) for part, inner in zip(thing, shape)])
+    if shape in (int, str):
+        return type(thing) is shape
+    return shape(thing) if callable(shape) else type(thing) is type(shape) and thing == shape
+
+
+def shaped_deed(thing):
+    return shaped(thing, ("find", int)) or shaped(thing, ("join", int, int))
+
+
+PAIRS, TRIPLES, LOTS = [(int, int)], [(int, int, int)], [[int]]
+
+# Of each word the shapes of all that follows it in the claim, and of the paper.
+SHAPES = {
+    "one": ((int, PAIRS, int, int), [int]),
+    "apart": ((int, PAIRS, int, int), [int]),
+    "first": ((int, PAIRS, int, int, int), ([int], [int])),
+    "comes": ((str, [int]), PAIRS),
+    "never": ((str, [int]), int),
+    "steps": ((int, str, str, [shaped_deed], int), None),
+    "strikes": ((int, PAIRS, int, int, int), ([int], [[int]])),
+    "differ": ((int, int, TRIPLES, int, int, int), PAIRS),
+    "fit": ((int, int, TRIPLES), [int]),
+    "clash": ((int, int, TRIPLES), PAIRS),
+    "together": ((int, LOTS, LOTS, int, int), [int]),
+    "not together": ((int, LOTS, LOTS, int, int), [int]),
+    "forest": ((int, TRIPLES, int), [int]),
+    "through": ((int, int, [int], int), ([int], [int])),
+    "shut": ((int, int, [int]), [int]),
+}
+
+
+def all_things(many, *things):
+    return 1 <= many <= 40 and set(things) <= set(range(many))
+
+
+def ends_in(row):
+    return [x for place in row for x in place[:2]]
+
+
+def rising(numbers):
+    return list(numbers) == sorted(set(numbers))
+
+
+def walked(row, x, road):
+    """Where one comes by this road; None where it breaks."""
+    for number in road:
+        if not 0 <= number < len(row) or x not in row[number]:
+            return None
+        x = sum(row[number]) - x
+    return x
+
+
+def keeps_apart(many, row, x, y, around):
+    if not all_things(many, *around) or not rising(around) or x not in around or y in around:
+        return False
+    return all([set(reached(many, row, inner)) <= set(around) for inner in around])
+
+
+def model_one(many, row, x, y, road):
+    return all_things(many, x, y, *ends_in(row)) and walked(row, x, road) == y
+
+
+def model_apart(many, row, x, y, around):
+    return all_things(many, x, y, *ends_in(row)) and keeps_apart(many, row, x, y, around)
+
+
+def model_first(many, row, x, y, moment, paper):
+    if moment < 1 or not model_one(many, row[:moment], x, y, paper[0]) or not all_things(many, *ends_in(row)):
+        return False
+    return keeps_apart(many, row[:moment - 1], x, y, paper[1])
+
+
+def right_forest(join, ups):
+    return join in JOINS and len(ups) > 0 and all_things(len(ups), *ups) and comes_to_heads(ups)
+
+
+def model_comes(join, ups, row):
+    if not right_forest(join, ups) or not all_things(len(ups), *ends_in(row)):
+        return False
+    return model_by(len(ups), row, join).ups == ups
+
+
+def drop(ups, x):
+    return max([0] + [1 + drop(ups, y) for y in range(len(ups)) if ups[y] == x and y != x])
+
+
+def model_never(join, ups, x):
+    if not right_forest(join, ups) or not all_things(len(ups), x):
+        return False
+    children = [y for y in range(len(ups)) if ups[y] == x and y != x]
+    if join == "rank":
+        return set(range(drop(ups, x))) != {drop(ups, y) for y in children}
+    if join == "size":
+        ahead = 0
+        for one in sorted([size(ups, y) for y in children]):
+            if one > ahead + 1:
+                return True
+            ahead += one
+    return join == "names" and min([x] + children) < x
+
+
+def model_steps(many, join, short, row, total, paper):
+    if join not in JOINS or short not in SHORTS or not all_things(many, *[x for deed in row for x in deed[1:]]):
+        return False
+    model = Model(many, join, short)
+    return sum([model.do(deed)[1] for deed in row]) == total
+
+
+def model_strikes(many, row, x, y, how, paper):
+    strikes, roads = paper
+    if not all_things(many, x, y, *ends_in(row)) or not how == len(strikes) == len(roads):
+        return False
+    if not rising(strikes) or not set(strikes) <= set(range(len(row))):
+        return False
+    if y in reached(many, [join for number, join in enumerate(row) if number not in strikes], x):
+        return False
+    numbers = [number for road in roads for number in road]
+    return len(numbers) == len(set(numbers)) and all([walked(row, x, road) == y for road in roads])
+
+
+def right_tellings(many, rest, tellings):
+    return all_things(many, *ends_in(tellings)) and (rest == 0 or rest in range(2, 1001))
+
+
+def same_by(rest, one, other):
+    return one == other if rest == 0 else (one - other) % rest == 0
+
+
+def walked_tellings(tellings, x, road):
+    """(THING, SUM) to which this road of tellings leads; None where it breaks."""
+    total = 0
+    for number, sign in road:
+        if not 0 <= number < len(tellings) or sign not in (1, -1) or tellings[number][:2][::sign][0] != x:
+            return None
+        x = tellings[number][:2][::sign][1]
+        total += sign * tellings[number][2]
+    return x, total
+
+
+def model_differ(many, rest, tellings, x, y, more, road):
+    if not right_tellings(many, rest, tellings) or not all_things(many, x, y):
+        return False
+    told = walked_tellings(tellings, x, road)
+    if told is None or (rest > 0 and more not in range(rest)):
+        return False
+    return told[0] == y and same_by(rest, told[1], more)
+
+
+def model_fit(many, rest, tellings, numbers):
+    if not right_tellings(many, rest, tellings) or len(numbers) != many:
+        return False
+    return all([same_by(rest, numbers[x] + more, numbers[y]) for x, y, more in tellings])
+
+
+def model_clash(many, rest, tellings, road):
+    if not right_tellings(many, rest, tellings):
+        return False
+    told = [(x, walked_tellings(tellings, x, road)) for x in range(many)]
+    return any([found is not None and found[0] == x and not same_by(rest, found[1], 0) for x, found in told])
+
+
+def right_lots(many, *both):
+    for told in both:
+        things = [x for lot in told for x in lot]
+        if not all_things(many, *things) or sorted(things) != list(range(many)):
+            return False
+        if not all([lot and rising(lot) for lot in told]) or list(told) != sorted(told):
+            return False
+    return True
+
+
+def model_together(many, one, other, x, y, chain):
+    if not right_lots(many, one, other) or not all_things(many, x, y, *chain) or not chain:
+        return False
+    links = [[lot for lot in one + other if {here, there} <= set(lot)] for here, there in zip(chain, chain[1:])]
+    return all(links) and (chain[0], chain[-1]) == (x, y)
+
+
+def model_not_together(many, one, other, x, y, around):
+    if not right_lots(many, one, other) or not all_things(many, x, y, *around) or not rising(around):
+        return False
+    parts = [set(lot) & set(around) in (set(), set(lot)) for lot in one + other]
+    return x in around and y not in around and all(parts)
+
+
+def heaviest_on_road(many, ties, x, y):
+    """The greatest weight on the one road from x to y by ties that make no ring; None where there is no road."""
+    waiting = [(x, None, -1)]
+    for at, ahead, most in waiting:
+        if at == y:
+            return most
+        for one, other, by in ties:
+            for here, there in ((one, other), (other, one)):
+                if here == at and there != ahead:
+                    waiting.append((there, at, max(most, by)))
+    return None
+
+
+def model_forest(many, ties, worth, chosen):
+    if not all_things(many, *ends_in(ties)) or min([0] + [by for x, y, by in ties]) < 0:
+        return False
+    if not rising(chosen) or not set(chosen) <= set(range(len(ties))):
+        return False
+    taken = [ties[number] for number in chosen]
+    lots_told = lots_by_joins(many, [tie[:2] for tie in taken])
+    # So many ties for so many pieces: then no tie is needless.
+    if lots_told != lots_by_joins(many, [tie[:2] for tie in ties]) or len(chosen) != many - len(lots_told):
+        return False
+    others = [ties[number] for number in range(len(ties)) if number not in chosen]
+    return worth == sum([by for x, y, by in taken]) and all(
+        [by >= heaviest_on_road(many, taken, x, y) for x, y, by in others])
+
+
+def right_spots(high, wide, row):
+    return (high, wide) in SIDES and set(row) <= set(range(high * wide))
+
+
+def is_line(spots, wide, reach, axis, last):
+    """Unlike spots with steps of this reach, from the first row or column, by axis, to the last one."""
+    places = [divmod(spot, wide) for spot in spots]
+    if not places or len(set(spots)) != len(spots) or (places[0][axis], places[-1][axis]) != (0, last):
+        return False
+    return all([(row - below) ** 2 + (column - beside) ** 2 <= reach
+                for (row, column), (below, beside) in zip(places, places[1:])])
+
+
+def model_shut(high, wide, row, wall):
+    if not right_spots(high, wide, row) or not set(wall) <= set(range(high * wide)) - set(row):
+        return False
+    return is_line(wall, wide, 2, 1, wide - 1)
+
+
+def model_through(high, wide, row, moment, paper):
+    if moment < 1 or not right_spots(high, wide, row) or not model_shut(high, wide, row[:moment - 1], paper[1]):
+        return False
+    return set(paper[0]) <= set(row[:moment]) and is_line(paper[0], wide, 1, 0, high - 1)
+
+
+MODELS = {
+    "one": model_one, "apart": model_apart, "first": model_first, "comes": model_comes, "never": model_never,
+    "steps": model_steps, "strikes": model_strikes, "differ": model_differ, "fit": model_fit, "clash": model_clash,
+    "together": model_together, "not together": model_not_together, "forest": model_forest,
+    "through": model_through, "shut": model_shut,
+}
+
+
+def holds_by_words(claim, paper):
+    """What the checker should tell of things of any kind, written from the document's words."""
+    if type(claim) is not tuple or not claim or type(claim[0]) is not str or claim[0] not in SHAPES:
+        return False
+    shape, paper_shape = SHAPES[claim[0]]
+    if not shaped(claim[1:], shape) or not shaped(paper, paper_shape):
+        return False
+    return bool(MODELS[claim[0]](*claim[1:], paper))
+
+
+def places_in(thing):
+    """The ways to all parts of a tuple, at any depth, as tuples of numbers; () to itself."""
+    ways = [()]
+    if type(thing) is tuple:
+        for at, part in enumerate(thing):
+            ways += [(at, *way_on) for way_on in places_in(part)]
+    return ways
+
+
+def part_at(thing, way_to):
+    for at in way_to:
+        thing = thing[at]
+    return thing
+
+
+def bent_at(thing, way_to, part):
+    """The same with another part there."""
+    if not way_to:
+        return part
+    return with_place(thing, way_to[0], bent_at(thing[way_to[0]], way_to[1:], part))
+
+
+def bends_of(part):
+    """What may stand there instead of it: others of its kind near it, and what only looks like it."""
+    if type(part) is tuple:
+        bends = [list(part), (part,), part + (0,), part + part, part[::-1], (), None, dict(enumerate(part))]
+        bends += [part[:at] + part[at + 1:] for at in range(len(part))]
+        bends += [part[:at] + part[at:at + 1] + part[at:] for at in range(len(part))]
+        return bends
+    if type(part) is int:
+        return [part + 1, part - 1, -part, part + 2, part - 40, 0, 1, 2, 10 ** 9, bool(part), str(part), None, (part,),
+                [part], b"1"]
+    if type(part) is str:
+        return [part.upper(), part + " ", part[:-1], part.encode(), (part,), None, 0, "one", "size", "none", "find"]
+    return [0, (), False, "", [], {}, (None,)]
+
+
+def all_bends(thing):
+    """The thing with each part, at any depth, bent in each way."""
+    return [bent_at(thing, way_to, part) for way_to in places_in(thing) for part in bends_of(part_at(thing, way_to))]
+
+
 def plain(told):
     """Whether all that is told is ints that are no truths, truths, texts, None, lists and tuples of these."""
     if type(told) in (list, tuple):

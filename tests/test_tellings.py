@@ -11,10 +11,6 @@ RESTS = (0, 2, 3, 7, 10, 999, 1000)
 TELLINGS = ((0, 1, 5), (2, 3, -4), (1, 0, -5), (4, 4, 0), (3, 1, 2), (2, 0, -7))
 
 
-def same_by(rest, one, other):
-    return one == other if rest == 0 else (one - other) % rest == 0
-
-
 def heights_by_flooding(many, rest, tellings):
     """What each thing is more than the least of its lot, or None where the tellings can't be all so."""
     known = {}
@@ -27,7 +23,7 @@ def heights_by_flooding(many, rest, tellings):
                     known.setdefault(y, known[x] + more)
                 if y in known:
                     known.setdefault(x, known[y] - more)
-    if not all([same_by(rest, known[y] - known[x], more) for x, y, more in tellings]):
+    if not all([helper.same_by(rest, known[y] - known[x], more) for x, y, more in tellings]):
         return None
     return tuple([known[x] if rest == 0 else known[x] % rest for x in range(many)])
 
@@ -94,7 +90,7 @@ class TellingsCase(Case):
             seen.append(at)
             total += sign * by
         self.assertEqual(y, at)
-        self.assertFalse(same_by(rest, total, more))
+        self.assertFalse(helper.same_by(rest, total, more))
 
 
 class Heights(TellingsCase):
